@@ -1,7 +1,6 @@
 package glossary_test
 
 import (
-	"fmt"
 	"hash/fnv"
 	"strings"
 	"testing"
@@ -256,49 +255,6 @@ func TestP6StreamsWithAnotherBit(t *testing.T) {
 				t.Fatalf("%q has two streams by %q", s, table)
 			}
 			checkUnsqueeze(t, table, string(other), len(s), want, api.OK)
-		}
-	}
-}
-
-// oddTexts are texts at which a careless call could stumble.
-func oddTexts() []string {
-	out := append(noTables(), "a@", "a b ", "\x02", "\x16\x80", "\x00", "\xff", bytesFrom(0, 255), evenly(bytesFrom(0, 63), 1))
-	for _, n := range []int{499, 500, 501, 799, 800, 801, 999, 1000, 1001, 20000} {
-		out = append(out, strings.Repeat("a", n), strings.Repeat("\x00", n), strings.Repeat("\xff", n))
-	}
-	return out
-}
-
-// answers tells all that the calls say of these texts, and finds fault with a result beside an error.
-func answers(t *testing.T, a, b string, n int) string {
-	table, e1 := glossary.Table(a)
-	stream, e2 := glossary.Squeeze(a, b)
-	s, e3 := glossary.Unsqueeze(a, b, n)
-	if e1 != api.OK && table != "" || e2 != api.OK && stream != "" || e3 != api.OK && s != "" {
-		t.Errorf("P1: an error and a result, at %.40q, %.40q, %d", a, b, n)
-	}
-	if sum := glossary.Sum(a); sum < 0 || sum > 4294967295 {
-		t.Errorf("P3: a sum of %d", sum)
-	}
-	return fmt.Sprintf("%d %q %d %q %d %q %d", glossary.Sum(a), table, e1, stream, e2, s, e3)
-}
-
-func TestP1P2OddArguments(t *testing.T) {
-	numbers := []int{-1 << 63, -1, 0, 1, 2, 499, 500, 501, 1<<63 - 1}
-	texts := oddTexts()
-	var first []string
-	for _, a := range texts {
-		for i, b := range texts {
-			first = append(first, answers(t, a, b, numbers[i%len(numbers)]))
-		}
-	}
-	// Once more, from the last to the first: what was called before must not matter.
-	for i := len(texts) - 1; i >= 0; i-- {
-		for j := len(texts) - 1; j >= 0; j-- {
-			again := answers(t, texts[i], texts[j], numbers[j%len(numbers)])
-			if again != first[i*len(texts)+j] {
-				t.Fatalf("P2: another answer at %.40q, %.40q", texts[i], texts[j])
-			}
 		}
 	}
 }

@@ -3,6 +3,8 @@ package glossary
 
 import (
 	"glossary/api"
+	"glossary/covers"
+	"glossary/files"
 	"glossary/shares"
 	"glossary/streams"
 	"glossary/sums"
@@ -63,16 +65,65 @@ func Unsqueeze(table string, stream string, n int) (string, api.Errno) {
 }
 
 // Cover makes a dictionary's content out of a text (P7).
-func Cover(text string, k int, d int, budget int) (string, api.Errno) { return "", api.OK }
+func Cover(text string, k int, d int, budget int) (string, api.Errno) {
+	errno := coverErrno(text, k, d, budget)
+	if errno != api.OK {
+		return "", errno
+	}
+	return covers.Make(text, k, d, budget), api.OK
+}
+
+// coverErrno tells why no content can be made so: for Train refuses what Cover refuses.
+func coverErrno(text string, k int, d int, budget int) api.Errno {
+	if len(text) > api.MaxText {
+		return api.ErrLong
+	}
+	if d < 1 || k < d || budget < k || budget > api.MaxContent || len(text) < k {
+		return api.ErrParam
+	}
+	return api.OK
+}
 
 // Write makes a dictionary's file (P8).
-func Write(id int, table string, content string) (string, api.Errno) { return "", api.OK }
+func Write(id int, table string, content string) (string, api.Errno) {
+	if len(content) > api.MaxContent {
+		return "", api.ErrLong
+	}
+	if !isId(id) || len(content) == 0 {
+		return "", api.ErrParam
+	}
+	if !shares.IsTable(table) {
+		return "", api.ErrTable
+	}
+	return files.Write(id, table, content), api.OK
+}
+
+func isId(id int) bool {
+	return id >= 0 && id <= api.MaxId
+}
 
 // Parse tells what a dictionary's file says: the id, the table, the content (P9).
-func Parse(file string) (int, string, string, api.Errno) { return 0, "", "", api.OK }
+func Parse(file string) (int, string, string, api.Errno) {
+	f, isFile := files.Read(file)
+	if !isFile {
+		return 0, "", "", api.ErrFile
+	}
+	return f.Id, f.Table, f.Content, api.OK
+}
 
 // Train learns a dictionary from a text (P10).
-func Train(id int, text string, k int, d int, budget int) (string, api.Errno) { return "", api.OK }
+func Train(id int, text string, k int, d int, budget int) (string, api.Errno) {
+	errno := coverErrno(text, k, d, budget)
+	if errno != api.OK {
+		return "", errno
+	}
+	if !isId(id) {
+		return "", api.ErrParam
+	}
+	table := shares.Learn(text)
+	content := covers.Make(text, k, d, budget)
+	return files.Write(id, table, content), api.OK
+}
 
 // Encode packs a record into a frame (P11).
 func Encode(file string, record string) (string, api.Errno) { return "", api.OK }

@@ -1,6 +1,8 @@
 package glossary_test
 
 import (
+	"encoding/binary"
+	"hash/fnv"
 	"math/big"
 	"sort"
 	"strings"
@@ -172,4 +174,100 @@ func (m *model) read(stream string, n int) (string, bool) {
 		slot = number - 64
 	}
 	return out, slot == 0 && bits == ""
+}
+
+// modelCover takes windows as texts, and asks of each piece anew where it stands.
+func modelCover(text string, k, d, budget int) string {
+	places := map[string]int{}
+	for i := 0; i+d <= len(text); i++ {
+		places[text[i:i+d]]++
+	}
+	var taken []string
+	content := ""
+	for len(content) < budget {
+		best, most := "", 0
+		for start := 0; start+k <= len(text); start++ {
+			window := text[start : start+k]
+			if score := modelScore(window, d, places, taken); score > most {
+				best, most = window, score
+			}
+		}
+		if most == 0 {
+			break
+		}
+		taken = append(taken, best)
+		content = best + content
+	}
+	// Only the window taken last can be too much, and it stands ahead.
+	if len(content) > budget {
+		content = content[len(content)-budget:]
+	}
+	return content
+}
+
+func modelScore(window string, d int, places map[string]int, taken []string) int {
+	score := 0
+	counted := map[string]bool{}
+	for i := 0; i+d <= len(window); i++ {
+		piece := window[i : i+d]
+		if counted[piece] {
+			continue
+		}
+		counted[piece] = true
+		stands := false
+		for _, w := range taken {
+			stands = stands || strings.Contains(w, piece)
+		}
+		if !stands {
+			score += places[piece]
+		}
+	}
+	return score
+}
+
+// low writes a number into so many bytes.
+func low(n, size int) string {
+	b := make([]byte, 8)
+	binary.LittleEndian.PutUint64(b, uint64(n))
+	return string(b[:size])
+}
+
+// sealed is a text with its sum behind it.
+func sealed(s string) string {
+	h := fnv.New32a()
+	h.Write([]byte(s))
+	return s + low(int(h.Sum32()), 4)
+}
+
+func modelFile(id int, table, content string) string {
+	return sealed("GD\x01" + low(id, 2) + low(len(table)/2, 1) + table + low(len(content), 2) + content)
+}
+
+// modelParse tries every id, table and content that could be meant; false, if none has this file.
+func modelParse(file string) (id int, table, content string, ok bool) {
+	for pairs := 1; pairs <= 64; pairs++ {
+		end := len(file) - 4
+		at := 6 + 2*pairs
+		if at+2 >= end || end-at-2 > api.MaxContent {
+			continue
+		}
+		id = int(file[3]) + 256*int(file[4])
+		table = file[6:at]
+		content = file[at+2 : end]
+		if modelIsTable(table) && modelFile(id, table, content) == file {
+			return id, table, content, true
+		}
+	}
+	return 0, "", "", false
+}
+
+func modelIsTable(table string) bool {
+	total := 0
+	for i := 0; i+1 < len(table); i += 2 {
+		if table[i+1] < 1 || table[i+1] > 64 || i > 0 && table[i] <= table[i-2] {
+			return false
+		}
+		total += int(table[i+1])
+	}
+	return total == 64 && len(table)%2 == 0
 }

@@ -18,7 +18,7 @@ type Layout struct {
 // Lay makes the layout of a table; false, if the text is no table.
 func Lay(table string) (Layout, bool) {
 	var l Layout
-	if !isTable(table) {
+	if !IsTable(table) {
 		return l, false
 	}
 	place := 0
@@ -35,7 +35,8 @@ func Lay(table string) (Layout, bool) {
 	return l, true
 }
 
-func isTable(table string) bool {
+// IsTable tells whether a text is a table.
+func IsTable(table string) bool {
 	if len(table)%2 != 0 || len(table) > 2*api.Slots {
 		return false
 	}
