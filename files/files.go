@@ -22,11 +22,12 @@ const (
 // tableAt is where the table begins.
 const tableAt = len(mark) + idSize + pairsSize
 
-// File is what a file says.
+// File is what a file says; Sum is the file's sum.
 type File struct {
 	Id      int
 	Table   string
 	Content string
+	Sum     int
 }
 
 // Write makes the file of an id, a table and a content that may be in one.
@@ -60,8 +61,9 @@ func Read(file string) (File, bool) {
 		return File{}, false
 	}
 	// The sum is tried last, when the text is known to be no longer than a file can be.
-	if numbers.Read(file[contentEnd:]) != sums.Of(file[:contentEnd]) {
+	sum := sums.Of(file[:contentEnd])
+	if numbers.Read(file[contentEnd:]) != sum {
 		return File{}, false
 	}
-	return File{Id: id, Table: table, Content: file[contentAt:contentEnd]}, true
+	return File{Id: id, Table: table, Content: file[contentAt:contentEnd], Sum: sum}, true
 }

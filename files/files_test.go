@@ -6,12 +6,13 @@ import (
 )
 
 func TestWriteAndRead(t *testing.T) {
+	long := strings.Repeat("x", 500)
 	for _, c := range []struct {
 		file string
 		says File
 	}{
-		{"GD\x01\x02\x01\x01a@\x02\x00xy\x17\x84\x35\x1d", File{258, "a@", "xy"}},
-		{Write(65535, "a b ", strings.Repeat("x", 500)), File{65535, "a b ", strings.Repeat("x", 500)}},
+		{"GD\x01\x02\x01\x01a@\x02\x00xy\x17\x84\x35\x1d", File{258, "a@", "xy", 0x1d358417}},
+		{"GD\x01\xff\xff\x02a b \xf4\x01" + long + "\xf7\x2b\x8e\xdf", File{65535, "a b ", long, 0xdf8e2bf7}},
 	} {
 		if got := Write(c.says.Id, c.says.Table, c.says.Content); got != c.file {
 			t.Errorf("Write of %v is %q, want %q", c.says, got, c.file)

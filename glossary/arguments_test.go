@@ -18,6 +18,10 @@ func oddTexts() []string {
 	for _, s := range []string{"GD", "GD\x01", "GD\x01\x00\x00", "GD\x01\x00\x00\xff", "GD\x01\x00\x00\x01a@", "GD\x01\x00\x00\x01a@\xff\xff", "GD\x01\x00\x00\x01a@\x01\x00x"} {
 		out = append(out, s, sealed(s))
 	}
+	file := sealed("GD\x01\x00\x00\x01a@\x01\x00x")
+	for _, body := range []string{"", "x", "\x00\x00\x00", "\x01\x00x\x00", "\x01\x01\x01\x02\x00", "\x00\x00\x01\x00\x00\x01", "\xff\x7f\x01\x01\x02\xff\x7f\xff\x7f\xff\x7f\xff\x7f"} {
+		out = append(out, modelHeaded(file, 0, "x", body), modelHeaded(file, 1, "a", body), modelHeaded(file, 1, "xxxx", body))
+	}
 	return out
 }
 
@@ -33,7 +37,9 @@ func answers(t *testing.T, a, b string, n int) string {
 	s, e3 := glossary.Unsqueeze(a, b, n)
 	file, e4 := glossary.Write(n, a, b)
 	id, itsTable, content, e5 := glossary.Parse(a)
-	if e1 != api.OK && table != "" || e2 != api.OK && stream != "" || e3 != api.OK && s != "" || e4 != api.OK && file != "" {
+	frame, e6 := glossary.Encode(a, b)
+	record, e7 := glossary.Decode(a, b)
+	if e1 != api.OK && table != "" || e2 != api.OK && stream != "" || e3 != api.OK && s != "" || e4 != api.OK && file != "" || e6 != api.OK && frame != "" || e7 != api.OK && record != "" {
 		t.Errorf("P1: an error and a result, at %.40q, %.40q, %d", a, b, n)
 	}
 	if e5 != api.OK && (id != 0 || itsTable != "" || content != "") {
@@ -42,7 +48,7 @@ func answers(t *testing.T, a, b string, n int) string {
 	if sum := glossary.Sum(a); sum < 0 || sum > 4294967295 {
 		t.Errorf("P3: a sum of %d", sum)
 	}
-	return fmt.Sprintf("%d %q %d %q %d %q %d %q %d %d %q %q %d", glossary.Sum(a), table, e1, stream, e2, s, e3, file, e4, id, itsTable, content, e5)
+	return fmt.Sprintf("%d %q %d %q %d %q %d %q %d %d %q %q %d %q %d %q %d", glossary.Sum(a), table, e1, stream, e2, s, e3, file, e4, id, itsTable, content, e5, frame, e6, record, e7)
 }
 
 func TestP1P2OddArguments(t *testing.T) {

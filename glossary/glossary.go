@@ -5,6 +5,7 @@ import (
 	"glossary/api"
 	"glossary/covers"
 	"glossary/files"
+	"glossary/frames"
 	"glossary/shares"
 	"glossary/streams"
 	"glossary/sums"
@@ -126,10 +127,45 @@ func Train(id int, text string, k int, d int, budget int) (string, api.Errno) {
 }
 
 // Encode packs a record into a frame (P11).
-func Encode(file string, record string) (string, api.Errno) { return "", api.OK }
+func Encode(file string, record string) (string, api.Errno) {
+	if len(record) > api.MaxRecord {
+		return "", api.ErrLong
+	}
+	f, isFile := files.Read(file)
+	if !isFile {
+		return "", api.ErrFile
+	}
+	return frames.Write(&f, record), api.OK
+}
 
 // Decode gives a frame's record back (P12).
-func Decode(file string, frame string) (string, api.Errno) { return "", api.OK }
+func Decode(file string, frame string) (string, api.Errno) {
+	if len(frame) > api.MaxFrame {
+		return "", api.ErrLong
+	}
+	f, isFile := files.Read(file)
+	if !isFile {
+		return "", api.ErrFile
+	}
+	head, isHead := frames.ReadHead(frame)
+	if !isHead {
+		return "", api.ErrFrame
+	}
+	if head.Id != f.Id {
+		return "", api.ErrUnknown
+	}
+	if head.FileSum != f.Sum {
+		return "", api.ErrOther
+	}
+	record, isBody := frames.ReadBody(&f, &head, frame)
+	if !isBody {
+		return "", api.ErrFrame
+	}
+	if sums.Of(record) != head.Sum {
+		return "", api.ErrSum
+	}
+	return record, api.OK
+}
 
 // New makes a store with room for so many dictionaries (P13).
 func New(room int) (*Store, api.Errno) { return nil, api.OK }

@@ -160,9 +160,9 @@ func (m *model) read(stream string, n int) (string, bool) {
 		slot = slot*2 + int(b-'0')
 	}
 	bits = bits[6:]
-	out := ""
+	var out []byte
 	for ; n > 0; n-- {
-		out += string(m.owner[slot : slot+1])
+		out = append(out, m.owner[slot])
 		number := m.number[slot]
 		for number < 64 {
 			if bits == "" {
@@ -173,7 +173,7 @@ func (m *model) read(stream string, n int) (string, bool) {
 		}
 		slot = number - 64
 	}
-	return out, slot == 0 && bits == ""
+	return string(out), slot == 0 && bits == ""
 }
 
 // modelCover takes windows as texts, and asks of each piece anew where it stands.
