@@ -115,3 +115,42 @@ func TestP1P2OddTexts(t *testing.T) {
 		}
 	}
 }
+
+// stored tells all that the calls of a store say of these texts, and finds fault with a result beside an error.
+func stored(t *testing.T, s *glossary.Store, a, b string, n int) string {
+	id, e1 := s.Register(a)
+	length, e2 := s.Put(a, b, n)
+	frame, e3 := s.Frame(a)
+	record, e4 := s.Get(a)
+	e5 := s.Plant(b, a)
+	frame2, e6 := s.Frame(b)
+	record2, e7 := s.Get(b)
+	e8 := s.Remove(n)
+	if e1 != api.OK && id != 0 || e2 != api.OK && length != 0 || e3 != api.OK && frame != "" || e4 != api.OK && record != "" || e6 != api.OK && frame2 != "" || e7 != api.OK && record2 != "" {
+		t.Errorf("P1: an error and a result, at %.40q, %.40q, %d", a, b, n)
+	}
+	return fmt.Sprintf("%d %d %d %d %q %d %q %d %d %q %d %q %d %d", id, e1, length, e2, frame, e3, record, e4, e5, frame2, e6, record2, e7, e8)
+}
+
+// Two stores on which the same is called say the same, whatever is called on a third one in between.
+func TestP1P2OddArgumentsOfStores(t *testing.T) {
+	numbers := oddNumbers()
+	texts := append(oddTexts(), "k", "12345678", "123456789", helloFile(), modelEncode(helloFile(), "hello world"))
+	one, another, third := newStore(t, 3), newStore(t, 3), newStore(t, 1)
+	for i, a := range texts {
+		for j, b := range texts {
+			n := numbers[(i+j)%len(numbers)]
+			first := stored(t, one, a, b, n)
+			stored(t, third, b, a, n)
+			if stored(t, another, a, b, n) != first {
+				t.Fatalf("P2: another answer at %.40q, %.40q, %d", a, b, n)
+			}
+		}
+	}
+	for _, n := range numbers {
+		s, e := glossary.New(n)
+		if (s == nil) != (n < 1 || n > 8) || (e == api.OK) != (s != nil) {
+			t.Errorf("P1: New(%d) = %v, %d", n, s, e)
+		}
+	}
+}

@@ -147,17 +147,24 @@ func modelPlay(table, content, body string) (string, bool) {
 	return (laid + loose)[len(content):], !c.wrong && c.rest == ""
 }
 
+func modelHasHead(frame string) bool {
+	if len(frame) < 14 || !strings.HasPrefix(frame, "F\x00") && !strings.HasPrefix(frame, "F\x01") {
+		return false
+	}
+	return modelSize(frame) <= 500
+}
+
+func modelSize(frame string) int {
+	return int(frame[8]) + 256*int(frame[9])
+}
+
 // modelDecode tells what a frame of at most MaxFrame bytes says by a file.
 func modelDecode(file, frame string) (string, api.Errno) {
 	_, table, content, ok := modelParse(file)
 	if !ok {
 		return "", api.ErrFile
 	}
-	if len(frame) < 14 || !strings.HasPrefix(frame, "F\x00") && !strings.HasPrefix(frame, "F\x01") {
-		return "", api.ErrFrame
-	}
-	size := int(frame[8]) + 256*int(frame[9])
-	if size > 500 {
+	if !modelHasHead(frame) {
 		return "", api.ErrFrame
 	}
 	if frame[2:4] != file[3:5] {
@@ -172,7 +179,7 @@ func modelDecode(file, frame string) (string, api.Errno) {
 			return "", api.ErrFrame
 		}
 	}
-	if len(record) != size {
+	if len(record) != modelSize(frame) {
 		return "", api.ErrFrame
 	}
 	if sealed(record) != record+frame[10:14] {

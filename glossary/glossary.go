@@ -3,16 +3,21 @@ package glossary
 
 import (
 	"glossary/api"
+	"glossary/bindings"
 	"glossary/covers"
 	"glossary/files"
 	"glossary/frames"
 	"glossary/shares"
+	"glossary/shelves"
 	"glossary/streams"
 	"glossary/sums"
 )
 
 // Store keeps dictionaries by their ids, and frames by their keys.
-type Store struct{}
+type Store struct {
+	bound bindings.Bindings
+	shelf shelves.Shelf
+}
 
 // Sum tells a text's checksum (P3).
 func Sum(s string) int {
@@ -154,10 +159,15 @@ func Decode(file string, frame string) (string, api.Errno) {
 	if head.Id != f.Id {
 		return "", api.ErrUnknown
 	}
+	return open(&f, &head, frame)
+}
+
+// open gives the record of a frame whose head names this file's id: for Get opens frames as Decode does.
+func open(f *files.File, head *frames.Head, frame string) (string, api.Errno) {
 	if head.FileSum != f.Sum {
 		return "", api.ErrOther
 	}
-	record, isBody := frames.ReadBody(&f, &head, frame)
+	record, isBody := frames.ReadBody(f, head, frame)
 	if !isBody {
 		return "", api.ErrFrame
 	}
@@ -168,22 +178,90 @@ func Decode(file string, frame string) (string, api.Errno) {
 }
 
 // New makes a store with room for so many dictionaries (P13).
-func New(room int) (*Store, api.Errno) { return nil, api.OK }
+func New(room int) (*Store, api.Errno) {
+	if room < 1 || room > api.MaxRoom {
+		return nil, api.ErrParam
+	}
+	return &Store{bound: bindings.Make(room)}, api.OK
+}
 
 // Register binds a file to its id (P13).
-func (s *Store) Register(file string) (int, api.Errno) { return 0, api.OK }
+func (s *Store) Register(file string) (int, api.Errno) {
+	f, isFile := files.Read(file)
+	if !isFile {
+		return 0, api.ErrFile
+	}
+	hasRoom := s.bound.Bind(f)
+	if !hasRoom {
+		return 0, api.ErrFull
+	}
+	return f.Id, api.OK
+}
 
 // Remove unbinds an id (P13).
-func (s *Store) Remove(id int) api.Errno { return api.OK }
+func (s *Store) Remove(id int) api.Errno {
+	wasBound := s.bound.Unbind(id)
+	if !wasBound {
+		return api.ErrUnknown
+	}
+	return api.OK
+}
 
 // Put lays a record's frame under a key (P14).
-func (s *Store) Put(key string, record string, id int) (int, api.Errno) { return 0, api.OK }
+func (s *Store) Put(key string, record string, id int) (int, api.Errno) {
+	if !isKey(key) {
+		return 0, api.ErrKey
+	}
+	if len(record) > api.MaxRecord {
+		return 0, api.ErrLong
+	}
+	f, isBound := s.bound.Of(id)
+	if !isBound {
+		return 0, api.ErrUnknown
+	}
+	frame := frames.Write(&f, record)
+	s.shelf.Lay(key, frame)
+	return len(frame), api.OK
+}
+
+func isKey(key string) bool {
+	return len(key) >= 1 && len(key) <= api.MaxKey
+}
 
 // Plant lays any bytes under a key (P14).
-func (s *Store) Plant(key string, frame string) api.Errno { return api.OK }
+func (s *Store) Plant(key string, frame string) api.Errno {
+	if !isKey(key) {
+		return api.ErrKey
+	}
+	if len(frame) > api.MaxFrame {
+		return api.ErrLong
+	}
+	s.shelf.Lay(key, frame)
+	return api.OK
+}
 
 // Get gives the record under a key (P15).
-func (s *Store) Get(key string) (string, api.Errno) { return "", api.OK }
+func (s *Store) Get(key string) (string, api.Errno) {
+	frame, lies := s.shelf.Look(key)
+	if !lies {
+		return "", api.ErrKey
+	}
+	head, isHead := frames.ReadHead(frame)
+	if !isHead {
+		return "", api.ErrFrame
+	}
+	f, isBound := s.bound.Of(head.Id)
+	if !isBound {
+		return "", api.ErrUnknown
+	}
+	return open(&f, &head, frame)
+}
 
 // Frame tells what lies under a key (P15).
-func (s *Store) Frame(key string) (string, api.Errno) { return "", api.OK }
+func (s *Store) Frame(key string) (string, api.Errno) {
+	frame, lies := s.shelf.Look(key)
+	if !lies {
+		return "", api.ErrKey
+	}
+	return frame, api.OK
+}
